@@ -1,0 +1,1 @@
+"""Likehalves: numbers whose parts have like sums of figures."""
