@@ -2,6 +2,7 @@
 
 import copy
 import itertools
+import unittest
 
 SMALL_FRAMES = [
     (2, [1, 1], [1, 1]),
@@ -41,6 +42,13 @@ NO_WHOLES = [
     True, False, None, "", "0", "1", "abc", [], [0], [1], (), (0,), (1, 2), {}, {0: 1}, {"a": []},
     [[0]], ([1],), [[[[0]]]], {0: {0: [1]}}, set(), {1}, frozenset([1]), b"1", object(), int, len, range(3),
 ]
+
+
+class RefusalCase(unittest.TestCase):
+    def assert_refused(self, refusal, asked, *things):
+        with self.assertRaises(refusal) as caught:
+            asked(*things)
+        self.assertIs(type(caught.exception), refusal)
 
 
 def copied(thing):

@@ -5,7 +5,8 @@ from collections import Counter
 from likehalves.counted import count_even, count_even_with, count_missing, count_near, even_by_sums, ways_of_part
 from likehalves.errors import NoFrame, NoMiss, NoPart, NoSum
 from likehalves.frames import how_many, is_even, misses_by, part_sums
-from samples import BIG_FRAMES, NO_WHOLES, SMALL_FRAMES, all_part_sums, copied, signs_turned, wrong_frames
+from samples import (BIG_FRAMES, NO_WHOLES, SMALL_FRAMES, RefusalCase, all_part_sums, copied, signs_turned,
+                     wrong_frames)
 
 OF_A_MISS = [count_missing, count_near]
 WITH_TWO = [ways_of_part, count_even_with, count_missing, count_near]
@@ -205,12 +206,7 @@ class SignsTurnedTest(unittest.TestCase):
                     self.assertEqual(count_near(turned, d), count_near(frame, d))
 
 
-class RefusalsTest(unittest.TestCase):
-    def assert_refused(self, refusal, asked, *things):
-        with self.assertRaises(refusal) as caught:
-            asked(*things)
-        self.assertIs(type(caught.exception), refusal)
-
+class RefusalsTest(RefusalCase):
     def test_no_frame(self):
         for thing in wrong_frames():
             with self.subTest(thing=thing):

@@ -2,7 +2,8 @@ import unittest
 
 from likehalves.errors import NoFrame, NoNumber
 from likehalves.frames import figures_of, how_many, is_even, is_frame, misses_by, part_sums
-from samples import BIG_FRAMES, NO_WHOLES, SMALL_FRAMES, all_part_sums, copied, signs_turned, wrong_frames
+from samples import (BIG_FRAMES, NO_WHOLES, SMALL_FRAMES, RefusalCase, all_part_sums, copied, signs_turned,
+                     wrong_frames)
 
 OF_A_NUMBER = [figures_of, part_sums, is_even, misses_by]
 TICKET = (10, [3, 3], [1, 1, 1, 1, 1, 1])
@@ -47,12 +48,7 @@ class IsFrameTest(unittest.TestCase):
                 self.assertIs(is_frame(thing), False)
 
 
-class RefusalsTest(unittest.TestCase):
-    def assert_refused(self, refusal, asked, *things):
-        with self.assertRaises(refusal) as caught:
-            asked(*things)
-        self.assertIs(type(caught.exception), refusal)
-
+class RefusalsTest(RefusalCase):
     def test_no_frame(self):
         for thing in wrong_frames():
             with self.subTest(thing=thing):
