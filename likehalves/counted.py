@@ -66,7 +66,7 @@ def need_miss(thing):
 
 
 def running_counts(ways, low, high):
-    # Place k tells in how many ways the sum lies below low + k.
+    # Place k tells in how many ways the sum lies from low on and below low + k.
     counts = [0]
     for total in range(low, high + 1):
         counts.append(counts[-1] + ways.get(total, 0))
@@ -81,14 +81,17 @@ def ways_within(running_by_part, start, end):
 
 
 def count_spread_within(ways_by_part, width):
-    low = min([min(ways) for ways in ways_by_part])
-    high = max([max(ways) for ways in ways_by_part])
+    leasts = [min(ways) for ways in ways_by_part]
+    greatests = [max(ways) for ways in ways_by_part]
     # No spread is greater than this, and a miss asked for may be far beyond it.
-    reach = min(width, high - low)
-    running_by_part = [running_counts(ways, low, high + reach) for ways in ways_by_part]
+    reach = min(width, max(greatests) - min(leasts))
+    # A number's least sum is in reach of every part's sums, and above none of them all.
+    first = max(min(leasts), max(leasts) - reach)
+    last = min(greatests)
+    running_by_part = [running_counts(ways, first, last + reach) for ways in ways_by_part]
     count = 0
     # Each number is counted once, at its least sum: all sums from there on, less those that all lie above it.
-    for start in range(high - low + 1):
+    for start in range(last - first + 1):
         end = start + reach + 1
         count += ways_within(running_by_part, start, end) - ways_within(running_by_part, start + 1, end)
     return count

@@ -28,6 +28,14 @@ SMALL_FRAMES = [
     (16, [1, 1, 1], [1, 2, 3]),
 ]
 
+# Two parts: too many numbers to go through often, but few values of each part.
+MIDDLE_FRAMES = [
+    (16, [3, 3], [1, 2, 3, 3, -1, 2]),
+    (16, [3, 3], [9, -9, 9, -9, 9, -9]),
+    (10, [4, 3], [1, 1, 1, 1, 2, 2, 2]),
+    (7, [2, 4], [0, 9, -1, 2, -3, 4]),
+]
+
 BIGGEST_PARTS = [6, 6, 6, 6]
 BIG_FRAMES = [
     (16, list(BIGGEST_PARTS), [1] * 24),
@@ -35,6 +43,11 @@ BIG_FRAMES = [
     (16, list(BIGGEST_PARTS), [9, -9, 0, 1, -1, 5] * 4),
     (16, list(BIGGEST_PARTS), [9] * 6 + [-9, 9, -9, 9, 0, 1] + [-9] * 6 + [2, 3, 5, 7, -8, 4]),
     (16, list(BIGGEST_PARTS), [0] * 24),
+]
+
+# No frames, each one near to a frame or to nothing at all, for asking what is refused first.
+A_FEW_WRONG_FRAMES = [
+    None, True, [10, [1, 1], [1, 1]], (10, (1, 1), [1, 1]), (10, [1, 1], [1, 10]), (17, [1, 1], [1, 1]),
 ]
 
 # Neither whole numbers nor anything near to it.
@@ -103,6 +116,14 @@ def all_part_sums(frame):
             sums.append(sum(row[place] * frame[2][place] for place in places))
             start += length
         told.append(sums)
+    return told
+
+
+def sums_of_values(base, weights):
+    """The sums of all rows of so many figures, the rows rising."""
+    told = [0]
+    for weight in weights:
+        told = [total + figure * weight for total in told for figure in range(base)]
     return told
 
 

@@ -5,8 +5,8 @@ from collections import Counter
 from likehalves.counted import count_even, count_even_with, count_missing, count_near, even_by_sums, ways_of_part
 from likehalves.errors import NoFrame, NoMiss, NoPart, NoSum
 from likehalves.frames import how_many, is_even, misses_by, part_sums
-from samples import (BIG_FRAMES, NO_WHOLES, SMALL_FRAMES, RefusalCase, all_part_sums, copied, signs_turned,
-                     wrong_frames)
+from samples import (A_FEW_WRONG_FRAMES, BIG_FRAMES, NO_WHOLES, SMALL_FRAMES, RefusalCase, all_part_sums, copied,
+                     signs_turned, wrong_frames)
 
 OF_A_MISS = [count_missing, count_near]
 WITH_TWO = [ways_of_part, count_even_with, count_missing, count_near]
@@ -216,7 +216,7 @@ class RefusalsTest(RefusalCase):
                     self.assert_refused(NoFrame, asked, thing, 0)
 
     def test_no_frame_ahead_of_all_else(self):
-        for thing in [None, True, [10, [1, 1], [1, 1]], (10, (1, 1), [1, 1]), (10, [1, 1], [1, 10]), (17, [1, 1], [1, 1])]:
+        for thing in A_FEW_WRONG_FRAMES:
             for second in NO_WHOLES + [-1, FAR]:
                 for asked in WITH_TWO:
                     with self.subTest(thing=thing, second=second, asked=asked):

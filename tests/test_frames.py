@@ -2,8 +2,8 @@ import unittest
 
 from likehalves.errors import NoFrame, NoNumber
 from likehalves.frames import figures_of, how_many, is_even, is_frame, misses_by, part_sums
-from samples import (BIG_FRAMES, NO_WHOLES, SMALL_FRAMES, RefusalCase, all_part_sums, copied, signs_turned,
-                     wrong_frames)
+from samples import (A_FEW_WRONG_FRAMES, BIG_FRAMES, NO_WHOLES, SMALL_FRAMES, RefusalCase, all_part_sums, copied,
+                     signs_turned, wrong_frames)
 
 OF_A_NUMBER = [figures_of, part_sums, is_even, misses_by]
 TICKET = (10, [3, 3], [1, 1, 1, 1, 1, 1])
@@ -57,7 +57,7 @@ class RefusalsTest(RefusalCase):
                     self.assert_refused(NoFrame, asked, thing, 0)
 
     def test_no_frame_ahead_of_no_number(self):
-        for thing in [None, True, [10, [1, 1], [1, 1]], (10, (1, 1), [1, 1]), (10, [1, 1], [1, 10]), (1, [1, 1], [1, 1])]:
+        for thing in A_FEW_WRONG_FRAMES:
             for number in NO_WHOLES + [-1, 100, 10 ** 25]:
                 for asked in OF_A_NUMBER:
                     with self.subTest(thing=thing, number=number, asked=asked):

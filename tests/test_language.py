@@ -117,6 +117,10 @@ class LanguageTest(unittest.TestCase):
         for name, node in nodes((ast.stmt, ast.expr)):
             where = f"{name}:{node.lineno}"
             self.assertIsInstance(node, STATEMENTS + EXPRESSIONS, f"L6, L7: {where}")
+            if isinstance(node, (ast.FunctionDef, ast.ClassDef)):
+                for each in node.body:
+                    if isinstance(each, ast.Expr):
+                        self.assertIsInstance(each.value, ast.Call, f"L6: {where}")
             if isinstance(node, (ast.For, ast.While)):
                 self.assertFalse(node.orelse, f"L6: {where}")
             if isinstance(node, ast.Try):
