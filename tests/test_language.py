@@ -26,6 +26,8 @@ EXPRESSIONS = (ast.Constant, ast.List, ast.Tuple, ast.Dict, ast.Set, ast.BinOp, 
                ast.IfExp, ast.Call, ast.Attribute, ast.Subscript, ast.Slice, ast.ListComp, ast.JoinedStr,
                ast.FormattedValue, ast.Lambda, ast.Name)
 LAZY = ["zip", "enumerate", "reversed", "range"]
+ASKED_KINDS = ["int", "str", "bool", "list", "tuple", "dict"]
+PYTHONS_OWN = sorted({name for each in ("", 0, [], (), {}, set(), b"") for name in dir(each)})
 
 
 def files():
@@ -159,6 +161,72 @@ class LanguageTest(unittest.TestCase):
             if isinstance(node.value, ast.Name) and node.value.id == "self":
                 continue
             self.assertIn(node.attr, METHODS + own, f"L25: {where}")
+
+    def test_methods_and_values_of_objects(self):
+        methods = [each.name for name, node in nodes(ast.ClassDef) for each in node.body
+                   if isinstance(each, ast.FunctionDef)]
+        values = [node.attr for name, node in nodes(ast.Attribute) if isinstance(node.ctx, ast.Store)]
+        self.assertEqual(set(methods) & set(values), set(), "L18")
+        for name in [each for each in methods + values if each not in TWO_UNDERSCORES]:
+            self.assertNotIn(name, PYTHONS_OWN, "L26")
+        for name, node in nodes(ast.ClassDef):
+            own = [each.name for each in node.body if isinstance(each, ast.FunctionDef)]
+            self.assertEqual(len(own), len(set(own)), f"L18: {name}:{node.lineno}")
+        for name, node in nodes(ast.FunctionDef):
+            if node.name == "__init__":
+                self.assertFalse([each for each in ast.walk(node) if isinstance(each, ast.Return)], f"L28: {name}")
+
+    def test_imports_and_classes_keep_their_names(self):
+        for path in files():
+            tree = ast.parse(path.read_text())
+            taken = [alias.asname or alias.name for node in tree.body if isinstance(node, ast.ImportFrom)
+                     for alias in node.names]
+            taken += [node.name for node in tree.body if isinstance(node, ast.ClassDef)]
+            for node in ast.walk(tree):
+                if isinstance(node, (ast.arg, ast.Name)):
+                    for made in bound_names(node):
+                        self.assertNotIn(made, taken, f"L15: {path.name}:{node.lineno}")
+
+    def test_calls(self):
+        for name, node in nodes(ast.Call):
+            where = f"{name}:{node.lineno}"
+            self.assertFalse(node.keywords, f"L22, and narrower than it: {where}")
+            if isinstance(node.func, ast.Name) and node.func.id == "isinstance":
+                kinds = node.args[1].elts if isinstance(node.args[1], ast.Tuple) else [node.args[1]]
+                for kind in kinds:
+                    self.assertIn(kind.id, ASKED_KINDS, f"L22: {where}")
+
+    def test_functions_of_python_are_called_where_they_stand(self):
+        for path in files():
+            tree = ast.parse(path.read_text())
+            fine = [id(node.func) for node in ast.walk(tree) if isinstance(node, ast.Call)]
+            for node in ast.walk(tree):
+                if isinstance(node, ast.Call) and isinstance(node.func, ast.Name) and node.func.id == "isinstance":
+                    fine += [id(each) for each in ast.walk(node.args[1])]
+                if isinstance(node, ast.ClassDef):
+                    fine += [id(base) for base in node.bases]
+            for node in ast.walk(tree):
+                where = f"L22, L25: {path.name}:{getattr(node, 'lineno', 0)}"
+                if isinstance(node, ast.Name) and node.id in dir(builtins):
+                    self.assertIn(id(node), fine, where)
+                if isinstance(node, ast.Attribute) and node.attr in METHODS:
+                    self.assertIn(id(node), fine, where)
+
+    def test_no_annotations_and_no_escapes(self):
+        for name, node in nodes((ast.FunctionDef, ast.arg)):
+            noted = node.returns if isinstance(node, ast.FunctionDef) else node.annotation
+            self.assertIsNone(noted, f"L21: {name}:{node.lineno}")
+        for path in files():
+            for escape in re.findall(r"\\.", path.read_text()):
+                self.assertIn(escape, ["\\n", "\\t", "\\\\", "\\'", "\\\""], f"L27: {path.name}")
+
+    def test_lists_and_dicts_of_a_files_top(self):
+        for path in files():
+            for node in ast.parse(path.read_text()).body:
+                if isinstance(node, ast.Assign):
+                    held = [each for each in ast.walk(node.value) if isinstance(each, (ast.List, ast.Dict, ast.Set))]
+                    self.assertLessEqual(len(held), 1, f"L15: {path.name}:{node.lineno}")
+                    self.assertFalse([each for each in ast.walk(node.value) if isinstance(each, ast.Call)], "L3")
 
     def test_lazy_walks_are_not_kept(self):
         for name, node in nodes((ast.Assign, ast.Return)):
